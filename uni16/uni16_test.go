@@ -184,10 +184,11 @@ func bookOf(big bool) book {
 	return k
 }
 
-// tail: the bytes that are tried behind a beginning: all, or, behind the many
-// of three bytes, those at the ends of what may stand there.
+// tail: the bytes that are tried behind a beginning: all, or, behind most of
+// the many of three bytes, those at the ends of what may stand there. One first
+// unit in 64 has all behind it, in either order.
 func tail(p string) []byte {
-	if len(p) == 3 && p[0]%64 != 63 {
+	if len(p) == 3 && (p[0]+p[1])%64 != 63 {
 		return []byte{0, 0x41, 0xD7, 0xD8, 0xDB, 0xDC, 0xDF, 0xE0, 0xFF}
 	}
 	var l []byte
