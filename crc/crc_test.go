@@ -356,7 +356,7 @@ func TestP162TheZeroSumIsOfNoBytes(t *testing.T) {
 	}
 }
 
-// Of all lines that are added one by one, each sum between is told, twice.
+// Texts are added byte by byte, and each sum between is asked for twice.
 func TestP162AddGoesOn(t *testing.T) {
 	for _, s := range short() {
 		var sum crc.Sum
@@ -485,8 +485,8 @@ func TestP163PartsOfOneSize(t *testing.T) {
 // framed: a text, and its sum's four bytes.
 func framed(s string) []byte { return []byte(s + crc.Four(crc.Of(s))) }
 
-// off: by which bits the sum of a text, of which four bytes behind it tell the
-// sum, is another one.
+// off: by which bits a text's sum is unlike what the four bytes behind the text
+// tell.
 func off(frame []byte) uint32 {
 	n := len(frame) - 4
 	return crc.Of(string(frame[:n])) ^ crc.Number(string(frame[n:]))
