@@ -1,7 +1,6 @@
 package codec_test
 
 import (
-	"fmt"
 	"math"
 	"slices"
 	"strings"
@@ -14,6 +13,7 @@ import (
 	"pilcrow/ebcdic"
 	"pilcrow/expand"
 	"pilcrow/puny"
+	"pilcrow/samples"
 	"pilcrow/sign"
 	"pilcrow/uni16"
 	"pilcrow/uni32"
@@ -28,18 +28,6 @@ var called = []string{
 // ordered: the codecs in that order.
 var ordered = []int{
 	api.Utf8, api.Utf16BE, api.Utf16LE, api.Utf32BE, api.Utf32LE, api.Ebcdic, api.Puny, api.Bocu, api.Scsu, api.Plain,
-}
-
-// none are numbers of no codecs.
-func none() []int {
-	l := []int{
-		0, -1, api.Codecs + 1, api.Codecs + 2, 15, 16, 17, 32, 255, 256, 257, 1 << 16, 1 << 31, 1 << 32, 1 << 62,
-		math.MinInt, math.MinInt32, math.MaxInt32, math.MaxInt - 1, math.MaxInt,
-	}
-	for c := 1; c <= api.Codecs; c++ {
-		l = append(l, -c, api.Codecs+c, 1<<8+c, 1<<16+c, 1<<32+c, math.MinInt+c, math.MaxInt-c)
-	}
-	return l
 }
 
 // ownDecoder: the decoder that the chapter says for a codec.
@@ -158,7 +146,7 @@ func isEncoded(t *testing.T, c int, l []uint32) string {
 	s, f := codec.Encode(c, l...)
 	for _, w := range ways() {
 		if want, fail := carry(ownEncoder(c), l, w.part, w.room); s != want || f != fail {
-			t.Errorf("Encode(%d, %s), %d numbers: %.40X %v, not %.40X %v (%v)", c, hex(l), len(l), s, f, want, fail, w)
+			t.Errorf("Encode(%d, %s), %d numbers: %.40X %v, not %.40X %v (%v)", c, samples.Hex(l), len(l), s, f, want, fail, w)
 		}
 	}
 	return s
@@ -170,7 +158,7 @@ func isDecoded(t *testing.T, c int, s string) []uint32 {
 	l, f := codec.Decode(c, s)
 	for _, w := range ways() {
 		if want, fail := read(ownDecoder(c), s, w.part, w.room); !slices.Equal(l, want) || f != fail {
-			t.Errorf("Decode(%d, %.40X), %d bytes: %s %v, not %s %v (%v)", c, s, len(s), hex(l), f, hex(want), fail, w)
+			t.Errorf("Decode(%d, %.40X), %d bytes: %s %v, not %s %v (%v)", c, s, len(s), samples.Hex(l), f, samples.Hex(want), fail, w)
 		}
 	}
 	return l
@@ -180,7 +168,7 @@ func isDecoded(t *testing.T, c int, s string) []uint32 {
 func encodes(t *testing.T, c int, want string, fail api.Fail, l ...uint32) {
 	t.Helper()
 	if s, f := codec.Encode(c, l...); s != want || f != fail {
-		t.Errorf("Encode(%d, %s): %.40X %v, not %.40X %v", c, hex(l), s, f, want, fail)
+		t.Errorf("Encode(%d, %s): %.40X %v, not %.40X %v", c, samples.Hex(l), s, f, want, fail)
 	}
 }
 
@@ -188,12 +176,9 @@ func encodes(t *testing.T, c int, want string, fail api.Fail, l ...uint32) {
 func decodes(t *testing.T, c int, s string, fail api.Fail, want ...uint32) {
 	t.Helper()
 	if l, f := codec.Decode(c, s); !slices.Equal(l, want) || f != fail {
-		t.Errorf("Decode(%d, %.40X): %s %v, not %s %v", c, s, hex(l), f, hex(want), fail)
+		t.Errorf("Decode(%d, %.40X): %s %v, not %s %v", c, s, samples.Hex(l), f, samples.Hex(want), fail)
 	}
 }
-
-// hex: a list's beginning, for a message.
-func hex(l []uint32) string { return fmt.Sprintf("%.120s", fmt.Sprintf("%X", l)) }
 
 func wrong(at int) api.Fail { return api.Fail{Err: api.ErrScalar, At: at} }
 func form(at int) api.Fail  { return api.Fail{Err: api.ErrForm, At: at} }
@@ -201,41 +186,6 @@ func cut(at int) api.Fail   { return api.Fail{Err: api.ErrCut, At: at} }
 
 // right is the Fail of what is right.
 var right = api.Fail{}
-
-// source makes the same numbers each time.
-type source struct{ state uint32 }
-
-func (r *source) below(n int) int {
-	r.state = r.state*1664525 + 1013904223
-	return int(r.state>>8) % n
-}
-
-// scalar: one of any size, more often one of a few that are near each other.
-func (r *source) scalar() uint32 {
-	switch r.below(8) {
-	case 0:
-		return uint32(r.below(0x20))
-	case 1, 2:
-		return uint32(0x20 + r.below(0x60))
-	case 3:
-		return uint32(0x80 + r.below(0x180))
-	case 4:
-		return uint32(0x400 + r.below(0x100))
-	case 5:
-		return uint32(0x3040 + r.below(0xA000))
-	case 6:
-		return uint32(0xE000 + r.below(0x2000))
-	}
-	return uint32(0x10000 + r.below(0x100000))
-}
-
-func (r *source) list(n int) []uint32 {
-	l := make([]uint32, n)
-	for i := range l {
-		l[i] = r.scalar()
-	}
-	return l
-}
 
 // sizes are scalars at the borders of what the codecs tell apart.
 func sizes() []uint32 {
@@ -252,16 +202,11 @@ func lists() [][]uint32 {
 	for _, a := range sizes() {
 		l = append(l, []uint32{a}, []uint32{a, 0x41}, []uint32{0x41, a}, []uint32{a, a}, []uint32{0xFEFF, a}, []uint32{0x416, a, 0x436})
 	}
-	r := &source{state: 18}
+	r := samples.From(18)
 	for n := 3; n < 60; n++ {
-		l = append(l, r.list(n))
+		l = append(l, r.List(n))
 	}
-	return append(l, sizes(), slices.Repeat([]uint32{0x41, 0x4E00}, 900), r.list(1500))
-}
-
-// noScalars are numbers that are none.
-func noScalars() []uint32 {
-	return []uint32{0xD800, 0xDBFF, 0xDC00, 0xDFFF, 0x110000, 0x110041, 0x200000, 0x7FFFFFFF, 0x80000041, 0xFFFFFFFF}
+	return append(l, sizes(), slices.Repeat([]uint32{0x41, 0x4E00}, 900), r.List(1500))
 }
 
 func TestExamples(t *testing.T) {
@@ -314,7 +259,7 @@ func TestP181NamesAndCodecs(t *testing.T) {
 }
 
 func TestP181NoSuchCodec(t *testing.T) {
-	for _, c := range none() {
+	for _, c := range samples.NoCodecs() {
 		if got := codec.Name(c); got != "" {
 			t.Errorf("Name(%d): %q", c, got)
 		}
@@ -361,7 +306,7 @@ func TestP181NoSuchName(t *testing.T) {
 
 func TestP182NoSuchCodec(t *testing.T) {
 	no := api.Fail{Err: api.ErrCodec}
-	for _, c := range none() {
+	for _, c := range samples.NoCodecs() {
 		encodes(t, c, "", no)
 		encodes(t, c, "", no, 0x41)
 		encodes(t, c, "", no, 0xD800)
@@ -377,7 +322,7 @@ func TestP182Encode(t *testing.T) {
 		for _, l := range lists() {
 			isEncoded(t, c, l)
 			if _, f := codec.Encode(c, l...); f != right {
-				t.Errorf("Encode(%d, %s): %v", c, hex(l), f)
+				t.Errorf("Encode(%d, %s): %v", c, samples.Hex(l), f)
 			}
 		}
 	}
@@ -417,11 +362,11 @@ func TestP182BytesOfEachSize(t *testing.T) {
 
 // What stands ahead of a number that is no scalar is told, and its place.
 func TestP182NoScalars(t *testing.T) {
-	r := &source{state: 5}
+	r := samples.From(5)
 	for _, c := range ordered {
-		for _, bad := range noScalars() {
+		for _, bad := range samples.NoScalars() {
 			for _, n := range []int{0, 1, 2, 3, 50} {
-				ahead := r.list(n)
+				ahead := r.List(n)
 				told, _ := codec.Encode(c, ahead...)
 				if c == api.Puny {
 					told = "" // all is told behind an end, and there is none
@@ -437,8 +382,8 @@ func TestP182NoScalars(t *testing.T) {
 }
 
 func TestP182NoScalarBehindManyScalars(t *testing.T) {
-	r := &source{state: 6}
-	ahead := r.list(1300)
+	r := samples.From(6)
+	ahead := r.List(1300)
 	for _, c := range ordered {
 		isEncoded(t, c, append(slices.Clone(ahead), 0xDFFF, 0x41))
 	}
@@ -513,20 +458,20 @@ func TestP182Broken(t *testing.T) {
 // cut, with a byte changed, with others behind.
 func texts(t *testing.T, c int) []string {
 	t.Helper()
-	r := &source{state: uint32(c)}
+	r := samples.From(uint32(c))
 	var out []string
 	for _, l := range lists() {
 		s, f := codec.Encode(c, l...)
 		if f != right {
-			t.Fatalf("Encode(%d, %s): %v", c, hex(l), f)
+			t.Fatalf("Encode(%d, %s): %v", c, samples.Hex(l), f)
 		}
 		out = append(out, s, s+"\xFF", s+"A\x80", "A"+s)
 		if s == "" {
 			continue
 		}
 		for range 8 {
-			at := r.below(len(s))
-			out = append(out, s[:at], s[:at]+string([]byte{byte(r.below(256))})+s[at+1:])
+			at := r.Below(len(s))
+			out = append(out, s[:at], s[:at]+string([]byte{byte(r.Below(256))})+s[at+1:])
 		}
 	}
 	return out
@@ -541,12 +486,12 @@ func TestP182Decode(t *testing.T) {
 }
 
 func TestP182DecodeAnyBytes(t *testing.T) {
-	r := &source{state: 7}
+	r := samples.From(7)
 	for n := range 400 {
 		b := make([]byte, n%40)
 		for i := range b {
-			b[i] = byte(r.below(256))
-			if r.below(2) == 0 {
+			b[i] = byte(r.Below(256))
+			if r.Below(2) == 0 {
 				b[i] &= 0x7F
 			}
 		}
@@ -593,7 +538,7 @@ func decoderState(d codec.Decoder) state { return state{d.At(), d.Fail(), d.Done
 func encoderState(e codec.Encoder) state { return state{e.At(), e.Fail(), e.Done(), e.Kept()} }
 
 func TestP183NoSuchCodec(t *testing.T) {
-	for _, c := range none() {
+	for _, c := range samples.NoCodecs() {
 		if d, err := codec.NewDecoder(c); d != nil || err != api.ErrCodec {
 			t.Errorf("NewDecoder(%d): %v, %d", c, d, err)
 		}
@@ -624,7 +569,7 @@ func together(t *testing.T, c int, d, own codec.Decoder, s string, part int) {
 	calls := rooms()
 	same := func(what string, eaten, wantEaten int, l, want []uint32) {
 		if eaten != wantEaten || !slices.Equal(l, want) || decoderState(d) != decoderState(own) {
-			t.Errorf("%d, %.40X, parts of %d, %s: %d %s %v, not %d %s %v", c, s, part, what, eaten, hex(l), decoderState(d), wantEaten, hex(want), decoderState(own))
+			t.Errorf("%d, %.40X, parts of %d, %s: %d %s %v, not %d %s %v", c, s, part, what, eaten, samples.Hex(l), decoderState(d), wantEaten, samples.Hex(want), decoderState(own))
 		}
 	}
 	feed := func(what, s string, room int) int {
@@ -666,7 +611,7 @@ func alongside(t *testing.T, c int, e, own codec.Encoder, l []uint32, part int) 
 	calls := rooms()
 	same := func(what string, eaten, wantEaten int, s, want string) {
 		if eaten != wantEaten || s != want || encoderState(e) != encoderState(own) {
-			t.Errorf("%d, %s, parts of %d, %s: %d %.40X %v, not %d %.40X %v", c, hex(l), part, what, eaten, s, encoderState(e), wantEaten, want, encoderState(own))
+			t.Errorf("%d, %s, parts of %d, %s: %d %.40X %v, not %d %.40X %v", c, samples.Hex(l), part, what, eaten, s, encoderState(e), wantEaten, want, encoderState(own))
 		}
 	}
 	feed := func(what string, l []uint32, room int) int {
@@ -692,7 +637,7 @@ func alongside(t *testing.T, c int, e, own codec.Encoder, l []uint32, part int) 
 func TestP183EncoderCallByCall(t *testing.T) {
 	for _, c := range ordered {
 		all := lists()
-		for i, bad := range noScalars() {
+		for i, bad := range samples.NoScalars() {
 			all = append(all, []uint32{bad}, []uint32{bad, 0x41}, []uint32{0x416, 0x436, 0x1F600, bad, 0x41}, append(slices.Clone(all[300+i]), bad, bad))
 		}
 		for _, l := range all {
@@ -760,7 +705,7 @@ func TestP184ThereAndBack(t *testing.T) {
 		for _, l := range lists() {
 			s, f := codec.Encode(c, l...)
 			if f != right {
-				t.Errorf("Encode(%d, %s): %v", c, hex(l), f)
+				t.Errorf("Encode(%d, %s): %v", c, samples.Hex(l), f)
 			}
 			decodes(t, c, s, right, l...)
 		}
@@ -830,7 +775,7 @@ func TestP184Signatures(t *testing.T) {
 			s, _ := codec.Encode(c, append([]uint32{api.Mark}, l...)...)
 			switch {
 			case c == api.Plain && !strings.HasPrefix(s, "\x0E\xFE\xFF"), !strings.HasPrefix(s, sign.Of(c)):
-				t.Errorf("Encode(%d, FEFF %s): %.40X; signature: %X", c, hex(l), s, sign.Of(c))
+				t.Errorf("Encode(%d, FEFF %s): %.40X; signature: %X", c, samples.Hex(l), s, sign.Of(c))
 			case (sign.Of(c) == "") != (c == api.Puny || c == api.Plain):
 				t.Errorf("%d: the signature % X", c, sign.Of(c))
 			}
@@ -848,22 +793,16 @@ func TestP184SignaturesAreTheMark(t *testing.T) {
 	}
 }
 
-// roomy: a list with spare room, and all of it.
-func roomy(l []uint32) (list, all []uint32) {
-	all = append(slices.Clone(l), 0xAAAA, 0xBBBB, 0xCCCC, 0xD800, 0xFFFFFFFF)
-	return all[:len(l)], all
-}
-
 func TestWhatIsHandedInStays(t *testing.T) {
-	r := &source{state: 8}
+	r := samples.From(8)
 	for _, c := range ordered {
 		for _, n := range []int{0, 1, 2, 5, 40, 1200} {
 			for _, bad := range []bool{false, true} {
-				l := r.list(n)
+				l := r.List(n)
 				if bad && n > 1 {
 					l[n-2] = 0xD800
 				}
-				list, all := roomy(l)
+				list, all := samples.Roomy(l, 0xD800)
 				was := slices.Clone(all)
 				codec.Encode(c, list...)
 				carry(newEncoder(t, c), list, 3, 2)
@@ -899,21 +838,13 @@ func TestWhatIsHandedInIsNotKept(t *testing.T) {
 	}
 }
 
-// spoil writes into a list, and into its spare room.
-func spoil(l []uint32) {
-	l = l[:cap(l)]
-	for i := range l {
-		l[i] = 0xDEAD
-	}
-}
-
 func TestAnswersAreNewMemory(t *testing.T) {
 	for _, c := range ordered {
 		for _, s := range texts(t, c) {
 			one, f := codec.Decode(c, s)
 			want := slices.Clone(one)
 			other, _ := codec.Decode(c, s)
-			spoil(one)
+			samples.Spoil(one, 0xDEAD)
 			if !slices.Equal(other, want) {
 				t.Errorf("Decode(%d, %.40X): two answers share memory", c, s)
 			}
@@ -932,14 +863,14 @@ func TestWhatAMachineToldIsNewMemory(t *testing.T) {
 		for at := 0; at < len(s) && d.Fail() == right; {
 			eaten, told := d.Feed(s[at:], 2)
 			got = append(got, told...)
-			spoil(told)
+			samples.Spoil(told, 0xDEAD)
 			at += eaten
 		}
 		d.End()
 		for !d.Done() {
 			_, told := d.Feed("", 3)
 			got = append(got, told...)
-			spoil(told)
+			samples.Spoil(told, 0xDEAD)
 		}
 		if !slices.Equal(got, l) {
 			t.Errorf("%d: %X, not %X", c, got, l)

@@ -1,0 +1,91 @@
+// Package samples makes what the layers' tests are fed, the same each time. The program itself doesn't use it.
+package samples
+
+import (
+	"math"
+	"slices"
+	"strconv"
+	"strings"
+
+	"pilcrow/api"
+)
+
+// Source makes numbers without a plain order.
+type Source struct{ state uint32 }
+
+// From: a source that makes the same numbers as any other one from here.
+func From(seed uint32) *Source { return &Source{state: seed} }
+
+// Below: a number from 0 on, below n.
+func (r *Source) Below(n int) int {
+	r.state = r.state*1664525 + 1013904223
+	return int(r.state>>8) % n
+}
+
+// Scalar: one of any size, more often one of a few that are near each other.
+func (r *Source) Scalar() uint32 {
+	switch r.Below(8) {
+	case 0:
+		return uint32(r.Below(0x20))
+	case 1, 2:
+		return uint32(0x20 + r.Below(0x60))
+	case 3:
+		return uint32(0x80 + r.Below(0x180))
+	case 4:
+		return uint32(0x400 + r.Below(0x100))
+	case 5:
+		return uint32(0x3040 + r.Below(0xA000))
+	case 6:
+		return uint32(0xE000 + r.Below(0x2000))
+	}
+	return uint32(0x10000 + r.Below(0x100000))
+}
+
+// List: so many scalars.
+func (r *Source) List(n int) []uint32 {
+	l := make([]uint32, n)
+	for i := range l {
+		l[i] = r.Scalar()
+	}
+	return l
+}
+
+// NoCodecs are numbers of no codecs.
+func NoCodecs() []int {
+	l := []int{
+		0, -1, api.Codecs + 1, api.Codecs + 2, 15, 16, 17, 32, 255, 256, 257, 1 << 16, 1 << 31, 1 << 32, 1 << 62,
+		math.MinInt, math.MinInt32, math.MaxInt32, math.MaxInt - 1, math.MaxInt,
+	}
+	for c := 1; c <= api.Codecs; c++ {
+		l = append(l, -c, api.Codecs+c, 1<<8+c, 1<<16+c, 1<<32+c, math.MinInt+c, math.MaxInt-c)
+	}
+	return l
+}
+
+// NoScalars are numbers that are none.
+func NoScalars() []uint32 {
+	return []uint32{0xD800, 0xDBFF, 0xDC00, 0xDFFF, 0x110000, 0x110041, 0x200000, 0x7FFFFFFF, 0x80000041, 0xFFFFFFFF}
+}
+
+// Roomy: a list with spare room, and all of it.
+func Roomy[T any](l []T, spare T) (list, all []T) {
+	all = append(slices.Clone(l), spare, spare, spare)
+	return all[:len(l)], all
+}
+
+// Spoil writes into a list, and into its spare room.
+func Spoil[T any](l []T, by T) {
+	l = l[:cap(l)]
+	for i := range l {
+		l[i] = by
+	}
+}
+
+// Hex: a list's beginning, for a message.
+func Hex(l []uint32) string {
+	words := make([]string, 0, 30)
+	for _, a := range l[:min(len(l), 30)] {
+		words = append(words, strings.ToUpper(strconv.FormatUint(uint64(a), 16)))
+	}
+	return "[" + strings.Join(words, " ") + "]"
+}
