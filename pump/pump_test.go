@@ -425,10 +425,10 @@ func aheads() [][]uint32 {
 
 func TestP191BrokenBytes(t *testing.T) {
 	for c := 1; c <= api.Codecs; c++ {
-		b := breaks()[c]
 		for _, ahead := range aheads() {
+			b := breaks()[c]
 			if c == api.Plain && len(ahead) == 0 {
-				ahead = []uint32{0x416}
+				b = breaks()[api.Scsu]
 			}
 			s, _ := codec.Encode(c, ahead...)
 			told := ahead
