@@ -187,26 +187,17 @@ func cut(at int) api.Fail   { return api.Fail{Err: api.ErrCut, At: at} }
 // right is the Fail of what is right.
 var right = api.Fail{}
 
-// sizes are scalars at the borders of what the codecs tell apart.
-func sizes() []uint32 {
-	return []uint32{
-		0, 1, 9, 0xA, 0xD, 0x1F, 0x20, 0x21, 0x2D, 0x40, 0x41, 0x7A, 0x7E, 0x7F, 0x80, 0x9F, 0xA0, 0xBF, 0xC0, 0xE9, 0xFF, 0x100,
-		0x3FF, 0x400, 0x416, 0x7FF, 0x800, 0x20AC, 0x3041, 0x3FFF, 0x4000, 0x4E00, 0xAC00, 0xD7FF, 0xE000, 0xF2FF, 0xF300, 0xFEFF,
-		0xFFFD, 0xFFFE, 0xFFFF, 0x10000, 0x1F600, 0x3FFFF, 0x40000, 0xFFFFF, 0x100000, 0x10FFFE, 0x10FFFF,
-	}
-}
-
 // lists: nothing, one scalar of each size, two, many, and more than a thousand.
 func lists() [][]uint32 {
 	l := [][]uint32{nil, {}}
-	for _, a := range sizes() {
+	for _, a := range samples.Sizes() {
 		l = append(l, []uint32{a}, []uint32{a, 0x41}, []uint32{0x41, a}, []uint32{a, a}, []uint32{0xFEFF, a}, []uint32{0x416, a, 0x436})
 	}
 	r := samples.From(18)
 	for n := 3; n < 60; n++ {
 		l = append(l, r.List(n))
 	}
-	return append(l, sizes(), slices.Repeat([]uint32{0x41, 0x4E00}, 900), r.List(1500))
+	return append(l, samples.Sizes(), slices.Repeat([]uint32{0x41, 0x4E00}, 900), r.List(1500))
 }
 
 func TestExamples(t *testing.T) {
@@ -390,66 +381,11 @@ func TestP182NoScalarBehindManyScalars(t *testing.T) {
 	encodes(t, api.Utf8, strings.Repeat("A", 3000), wrong(3000), append(slices.Repeat([]uint32{0x41}, 3000), 0x110000, 0x41)...)
 }
 
-// broken is a text that goes wrong, or is cut off.
-type broken struct {
-	s    string
-	fail api.Fail
-	told []uint32
-}
-
-// breaks: some of each codec, the wrong byte at the beginning, amid and at the
-// end, by the chapters' words.
-func breaks() map[int][]broken {
-	scsu := []broken{
-		{"\x0C", form(0), nil}, {"ab\x0C", form(2), []uint32{0x61, 0x62}}, {"\x18\x00", form(1), nil}, {"a\x18\xA8b", form(2), []uint32{0x61}},
-		{"a\x0E\xD8\x3D\x41", form(4), []uint32{0x61}}, {"\x0E\xDC", form(1), nil}, {"\x0F\xF2", form(1), nil}, {"\x0F\xDC", form(1), nil},
-		{"a\x0F\x04\x16\xD8\x3D\x00", form(6), []uint32{0x61, 0x416}}, {"a\x0E", cut(2), []uint32{0x61}}, {"\x01", cut(1), nil},
-		{"a\x0F\xD8\x3D", cut(4), []uint32{0x61}}, {"\x0F\xD8\x3D\xDE", cut(4), nil}, {"\x0B\xE1", cut(2), nil},
-	}
-	return map[int][]broken{
-		api.Utf8: {
-			{"\x80", form(0), nil}, {"\xC1", form(0), nil}, {"\xFF\x41", form(0), nil}, {"A\xC3\xA9\xE0\x80A", form(4), []uint32{0x41, 0xE9}},
-			{"A\xED\xA0\x80", form(2), []uint32{0x41}}, {"AB\xF4\x90", form(3), []uint32{0x41, 0x42}}, {"ABC\xF5", form(3), []uint32{0x41, 0x42, 0x43}},
-			{"\xC3", cut(1), nil}, {"A\xE2\x82", cut(3), []uint32{0x41}}, {"AA\xF0\x9F\x98", cut(5), []uint32{0x41, 0x41}},
-		},
-		api.Utf16BE: {
-			{"\xDC\x00", form(0), nil}, {"\x00A\xDF\xFF\x00A", form(2), []uint32{0x41}}, {"\x00A\xD8\x3D\x00A", form(4), []uint32{0x41}},
-			{"\x00", cut(1), nil}, {"\x00A\xD8", cut(3), []uint32{0x41}}, {"\x00A\xD8\x3D", cut(4), []uint32{0x41}}, {"\xD8\x3D\xDE", cut(3), nil},
-		},
-		api.Utf16LE: {
-			{"\x00\xDC", form(1), nil}, {"A\x00\xFF\xDFA\x00", form(3), []uint32{0x41}}, {"A\x00\x3D\xD8A\x00", form(5), []uint32{0x41}},
-			{"A", cut(1), nil}, {"A\x00\x3D", cut(3), []uint32{0x41}}, {"A\x00\x3D\xD8", cut(4), []uint32{0x41}}, {"\x3D\xD8\x00", cut(3), nil},
-		},
-		api.Utf32BE: {
-			{"\x01", form(0), nil}, {"\x00\x11\x00\x00", form(1), nil}, {"\x00\x00\x00A\x00\x00\xD8\x00", form(6), []uint32{0x41}},
-			{"\x00", cut(1), nil}, {"\x00\x00\x00A\x00\x10\xFF", cut(7), []uint32{0x41}},
-		},
-		api.Utf32LE: {
-			{"\x00\x00\x11\x00", form(2), nil}, {"A\x00\x00\x01", form(3), nil}, {"A\x00\x00\x00\x00\xD8\x00\x00", form(6), []uint32{0x41}},
-			{"A", cut(1), nil}, {"A\x00\x00\x00\xFF\xFF\x10", cut(7), []uint32{0x41}},
-		},
-		api.Ebcdic: {
-			{"\x41", form(0), nil}, {"\xC1\x41\xC1", form(1), []uint32{0x41}}, {"\xC1\xDD\x73\xC1", form(3), []uint32{0x41}},
-			{"\xDD", cut(1), nil}, {"\xC1\xDD\x73\x66", cut(4), []uint32{0x41}},
-		},
-		api.Puny: {
-			{"\x80", form(0), nil}, {"abc-\xFF", form(4), nil}, {"bcher-\xC3kva", form(6), nil},
-			{"a-!", cut(3), nil}, {"-kva", cut(4), nil}, {"bcher-kv", cut(8), nil},
-		},
-		api.Bocu: {
-			{"\x4F", form(0), nil}, {"\x50", form(0), nil}, {"\x91\xD3\x20", form(2), []uint32{0x41}}, {"\xD3\xCA\x0A\x4F\x91", form(3), []uint32{0x416, 0x0A}},
-			{"\xD3", cut(1), nil}, {"\x91\xFB\xEE", cut(3), []uint32{0x41}},
-		},
-		api.Scsu:  scsu,
-		api.Plain: scsu,
-	}
-}
-
 func TestP182Broken(t *testing.T) {
-	for c, l := range breaks() {
-		for _, b := range l {
-			decodes(t, c, b.s, b.fail, b.told...)
-			isDecoded(t, c, b.s)
+	for _, c := range ordered {
+		for _, b := range samples.Broken(c) {
+			decodes(t, c, b.Text, b.Fail, b.Told...)
+			isDecoded(t, c, b.Text)
 		}
 	}
 }
@@ -513,16 +449,16 @@ func TestP182WrongBehindManyScalars(t *testing.T) {
 	many := slices.Repeat([]uint32{0x41, 0x416, 0x436, 0x0A}, 400)
 	for _, c := range ordered {
 		s, _ := codec.Encode(c, many...)
-		bad := breaks()[c][0] // it goes wrong behind nothing, or behind a line's end
+		bad := samples.Broken(c)[0] // it goes wrong behind nothing, or behind a line's end
 		told := many
 		switch c {
 		case api.Puny:
 			told = nil // all is told behind the end, and there is none
 		case api.Plain:
-			bad = broken{"\xF2", form(0), nil} // what was written goes on in the Unicode mode
+			bad = samples.Wrong{Text: "\xF2", Fail: form(0)} // what was written goes on in the Unicode mode
 		}
-		decodes(t, c, s+bad.s, form(len(s)+bad.fail.At), told...)
-		isDecoded(t, c, s+bad.s)
+		decodes(t, c, s+bad.Text, form(len(s)+bad.Fail.At), told...)
+		isDecoded(t, c, s+bad.Text)
 	}
 }
 
