@@ -667,19 +667,6 @@ func TestP204ThereAndBack(t *testing.T) {
 	}
 }
 
-// burst: a text with a burst of so many bits from a bit on: the first and the
-// last of them are turned, and any between.
-func burst(s string, from, bits int, between uint32) string {
-	b := []byte(s)
-	turned := uint64(between)<<1&(1<<bits-1) | 1 | 1<<(bits-1)
-	for i := range bits {
-		if turned>>i&1 == 1 {
-			b[(from+i)/8] ^= 1 << ((from + i) % 8)
-		}
-	}
-	return string(b)
-}
-
 func TestP204Bursts(t *testing.T) {
 	r := samples.From(204)
 	for c := 1; c <= api.Codecs; c++ {
@@ -693,7 +680,7 @@ func TestP204Bursts(t *testing.T) {
 					}
 					for _, between := range []uint32{0, math.MaxUint32, 0x55555555, uint32(r.Below(1 << 24))} {
 						hurt := b
-						hurt.Payload = burst(b.Payload, from, bits, between)
+						hurt.Payload = samples.Burst(b.Payload, from, bits, between)
 						opens(t, c, hurt, fail(api.ErrSum, 0))
 						got, _, _ := block.Read(spellingOf(hurt), 0)
 						opens(t, c, got, fail(api.ErrSum, 0))

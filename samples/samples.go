@@ -90,6 +90,19 @@ func Spoil[T any](l []T, by T) {
 	}
 }
 
+// Burst: a text with a burst of so many bits from a bit on: the first and the
+// last of them are turned, and any between.
+func Burst(s string, from, bits int, between uint32) string {
+	b := []byte(s)
+	turned := uint64(between)<<1&(1<<bits-1) | 1 | 1<<(bits-1)
+	for i := range bits {
+		if turned>>i&1 == 1 {
+			b[(from+i)/8] ^= 1 << ((from + i) % 8)
+		}
+	}
+	return string(b)
+}
+
 // Hex: a list's beginning, for a message.
 func Hex(l []uint32) string {
 	words := make([]string, 0, 30)
